@@ -1,0 +1,1 @@
+"""Keepaway: things put in rows so that no two alike stand near."""
