@@ -7,17 +7,19 @@ MOST_ALIKE = 40
 MOST_APART = 8
 
 
+# A refused number is not written into the refusal: Python writes no number of
+# some thousand digits, and its own error would come instead.
 def check_counts(counts):
     if not 1 <= len(counts) <= MOST_KINDS:
         raise NoWish(f"a wish has 1 to {MOST_KINDS} kinds")
     for number in counts:
         if not 0 <= number <= MOST_ALIKE:
-            raise NoWish(f"a count is from 0 to {MOST_ALIKE}, not {number}")
+            raise NoWish(f"a count is from 0 to {MOST_ALIKE}")
 
 
 def check_apart(apart):
     if not 0 <= apart <= MOST_APART:
-        raise NoWish(f"things stay 0 to {MOST_APART} places apart, not {apart}")
+        raise NoWish(f"things stay 0 to {MOST_APART} places apart")
 
 
 class Wish:

@@ -67,6 +67,12 @@ class RefusedWishes(unittest.TestCase):
                     counts[place] = number
                     self.refused(counts, 2)
 
+    def test_numbers_of_very_many_digits(self):
+        for number in (10**5000, -(10**5000)):
+            for counts, apart in (([1, number], 0), ([1], number)):
+                with self.subTest(digits=number.bit_length(), kinds=len(counts)):
+                    self.assertRaises(NoWish, Wish, counts, apart)
+
     def test_apart_out_of_bounds(self):
         for apart in (-1, 9, -8, 100):
             self.refused([1, 2], apart)
